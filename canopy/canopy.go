@@ -1,0 +1,145 @@
+// Package canopy: snapshots of trees of files, and what must be built again: see DOC.md.
+package canopy
+
+// Errno is what a call answers: OK or the reason for a refusal.
+type Errno int
+
+const (
+	OK          Errno = 0
+	ErrArg      Errno = 1  // a number that may not be
+	ErrSnapshot Errno = 2  // no such snapshot
+	ErrPath     Errno = 3  // no path, or no name
+	ErrLong     Errno = 4  // a text above its bound
+	ErrKind     Errno = 5  // a file where there is a directory, or the other way round
+	ErrAbsent   Errno = 6  // nothing there
+	ErrMany     Errno = 7  // too many files, snapshots, rules or questions
+	ErrFull     Errno = 8  // too many cells
+	ErrPattern  Errno = 9  // no pattern
+	ErrQuestion Errno = 10 // no question
+	ErrRule     Errno = 11 // no rule
+)
+
+const (
+	maxCells     = 200
+	maxDepth     = 5
+	maxName      = 8
+	maxData      = 30
+	maxFiles     = 20
+	maxSnapshots = 12
+)
+
+// Store keeps snapshots and rules.
+type Store struct {
+	room        int // how many cells there may be
+	made        int // how many snapshots were ever made: the next one's number
+	snapshots   map[int]*directory
+	directories map[listing]*directory // each tree of a directory, once
+	files       map[string]*file       // each data of a file, once
+}
+
+// New makes a store (P3).
+func New(cells int) (*Store, Errno) {
+	if cells < 1 || cells > maxCells {
+		return nil, ErrArg
+	}
+	s := &Store{
+		room:        cells,
+		snapshots:   map[int]*directory{},
+		directories: map[listing]*directory{},
+		files:       map[string]*file{},
+	}
+	s.add(&directory{})
+	return s, OK
+}
+
+// Put makes a snapshot with a file (P4).
+func (s *Store) Put(snapshot int, path string, data string) (int, Errno) {
+	root := s.snapshots[snapshot]
+	if root == nil {
+		return 0, ErrSnapshot
+	}
+	names := namesOf(path)
+	if names == nil {
+		return 0, ErrPath
+	}
+	if len(data) > maxData {
+		return 0, ErrLong
+	}
+	switch _, found := look(root, names); found {
+	case blocked, atDirectory:
+		return 0, ErrKind
+	case free:
+		if root.fileCount() >= maxFiles {
+			return 0, ErrMany
+		}
+	}
+	return s.add(root.put(names, &file{data: data}))
+}
+
+// Delete makes a snapshot without a file or directory (P4).
+func (s *Store) Delete(snapshot int, path string) (int, Errno) {
+	root := s.snapshots[snapshot]
+	if root == nil {
+		return 0, ErrSnapshot
+	}
+	names := namesOf(path)
+	if names == nil {
+		return 0, ErrPath
+	}
+	if n, _ := look(root, names); n == nil {
+		return 0, ErrAbsent
+	}
+	return s.add(root.remove(names))
+}
+
+// Move makes a snapshot with a file or directory elsewhere (P5).
+func (s *Store) Move(snapshot int, from string, to string) (int, Errno) {
+	root := s.snapshots[snapshot]
+	if root == nil {
+		return 0, ErrSnapshot
+	}
+	source, target := namesOf(from), namesOf(to)
+	if source == nil || target == nil {
+		return 0, ErrPath
+	}
+	moved, _ := look(root, source)
+	if moved == nil {
+		return 0, ErrAbsent
+	}
+	if _, found := look(root, target); found != free || begins(source, target) {
+		return 0, ErrKind
+	}
+	if len(target)+moved.height() > maxDepth {
+		return 0, ErrPath
+	}
+	return s.add(root.remove(source).put(target, moved))
+}
+
+// Release gives a snapshot up (P6).
+func (s *Store) Release(snapshot int) Errno {
+	root := s.snapshots[snapshot]
+	if root == nil {
+		return ErrSnapshot
+	}
+	delete(s.snapshots, snapshot)
+	s.drop(root)
+	return OK
+}
+
+// Cells tells how much is kept (P6).
+func (s *Store) Cells() int { return len(s.directories) + len(s.files) }
+
+// Same tells whether a path is the same in two snapshots (P7).
+func (s *Store) Same(a int, b int, path string) (bool, Errno) { return false, OK }
+
+// Diff tells in what two snapshots differ (P7).
+func (s *Store) Diff(a int, b int) (string, Errno) { return "", OK }
+
+// Ask answers a question about a snapshot (P8).
+func (s *Store) Ask(snapshot int, question string) (string, Errno) { return "", OK }
+
+// Rule sets a rule (P9).
+func (s *Store) Rule(name string, questions ...string) Errno { return OK }
+
+// Plan tells which rules must be built (P9).
+func (s *Store) Plan(snapshot int) (string, Errno) { return "", OK }
