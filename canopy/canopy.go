@@ -1,6 +1,8 @@
 // Package canopy: snapshots of trees of files, and what must be built again: see DOC.md.
 package canopy
 
+import "strings"
+
 // Errno is what a call answers: OK or the reason for a refusal.
 type Errno int
 
@@ -130,10 +132,37 @@ func (s *Store) Release(snapshot int) Errno {
 func (s *Store) Cells() int { return len(s.directories) + len(s.files) }
 
 // Same tells whether a path is the same in two snapshots (P7).
-func (s *Store) Same(a int, b int, path string) (bool, Errno) { return false, OK }
+func (s *Store) Same(a int, b int, path string) (bool, Errno) {
+	first, second := s.snapshots[a], s.snapshots[b]
+	if first == nil || second == nil {
+		return false, ErrSnapshot
+	}
+	names := namesOrRoot(path)
+	if names == nil {
+		return false, ErrPath
+	}
+	left, _ := look(first, names)
+	right, _ := look(second, names)
+	if left == nil || right == nil {
+		return false, ErrAbsent
+	}
+	return left == right, OK
+}
 
 // Diff tells in what two snapshots differ (P7).
-func (s *Store) Diff(a int, b int) (string, Errno) { return "", OK }
+func (s *Store) Diff(a int, b int) (string, Errno) {
+	first, second := s.snapshots[a], s.snapshots[b]
+	if first == nil || second == nil {
+		return "", ErrSnapshot
+	}
+	var lines strings.Builder
+	for path, m := range changes(entry{node: first}, entry{node: second}, "") {
+		lines.WriteByte(byte(m))
+		lines.WriteString(path)
+		lines.WriteByte('\n')
+	}
+	return lines.String(), OK
+}
 
 // Ask answers a question about a snapshot (P8).
 func (s *Store) Ask(snapshot int, question string) (string, Errno) { return "", OK }

@@ -274,7 +274,7 @@ func difference(s *Store, m *model) string {
 }
 
 // TestModel makes long runs of calls, right ones and wrong ones, and holds each answer and all
-// snapshots against the model (P1, P4, P5, P6).
+// snapshots against the model (P1, P4, P5, P6, P7).
 func TestModel(t *testing.T) {
 	for seed := range uint64(48) {
 		r := rand.New(rand.NewPCG(seed, 1))
@@ -286,6 +286,9 @@ func TestModel(t *testing.T) {
 		for range 800 {
 			if len(m.snapshots) == 0 {
 				s, m = newStore(t, room), newModel(room)
+			}
+			if fault := compare(r, s, m); fault != "" {
+				t.Fatalf("seed %d: %s", seed, fault)
 			}
 			if fault := step(r, s, m); fault != "" {
 				t.Fatalf("seed %d: %s", seed, fault)

@@ -20,6 +20,24 @@ func namesOf(path string) []string {
 	return names
 }
 
+// namesOrRoot answers the names of a path, none of them for the root, or nil if
+// the text is neither.
+func namesOrRoot(path string) []string {
+	if path == "/" {
+		return []string{}
+	}
+	return namesOf(path)
+}
+
+// join answers the path of what lies by that name in the directory, the root
+// having the empty path.
+func join(path string, name string) string {
+	if path == "" {
+		return name
+	}
+	return path + "/" + name
+}
+
 func isName(text string) bool {
 	if len(text) < 1 || len(text) > maxName {
 		return false
