@@ -28,6 +28,7 @@ const (
 	maxData      = 30
 	maxFiles     = 20
 	maxSnapshots = 12
+	maxText      = 60
 )
 
 // Store keeps snapshots and rules.
@@ -165,7 +166,17 @@ func (s *Store) Diff(a int, b int) (string, Errno) {
 }
 
 // Ask answers a question about a snapshot (P8).
-func (s *Store) Ask(snapshot int, question string) (string, Errno) { return "", OK }
+func (s *Store) Ask(snapshot int, question string) (string, Errno) {
+	root := s.snapshots[snapshot]
+	if root == nil {
+		return "", ErrSnapshot
+	}
+	q, err := parse(question)
+	if err != OK {
+		return "", err
+	}
+	return answer(q, root), OK
+}
 
 // Rule sets a rule (P9).
 func (s *Store) Rule(name string, questions ...string) Errno { return OK }

@@ -274,7 +274,7 @@ func difference(s *Store, m *model) string {
 }
 
 // TestModel makes long runs of calls, right ones and wrong ones, and holds each answer and all
-// snapshots against the model (P1, P4, P5, P6, P7).
+// snapshots against the model (P1, P4 to P8).
 func TestModel(t *testing.T) {
 	for seed := range uint64(48) {
 		r := rand.New(rand.NewPCG(seed, 1))
@@ -288,6 +288,9 @@ func TestModel(t *testing.T) {
 				s, m = newStore(t, room), newModel(room)
 			}
 			if fault := compare(r, s, m); fault != "" {
+				t.Fatalf("seed %d: %s", seed, fault)
+			}
+			if fault := inquire(r, s, m); fault != "" {
 				t.Fatalf("seed %d: %s", seed, fault)
 			}
 			if fault := step(r, s, m); fault != "" {

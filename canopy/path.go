@@ -6,18 +6,22 @@ import (
 )
 
 // namesOf answers the names of a path, or nil if the text is no path.
-func namesOf(path string) []string {
-	// One piece more than a path may have is enough to refuse it, however long the rest is.
-	names := strings.SplitN(path, "/", maxDepth+1)
-	if len(names) > maxDepth {
+func namesOf(path string) []string { return pieces(path, isName) }
+
+// pieces answers the pieces of a text between its slashes, or nil if they are
+// too many, or one of them is wrong.
+func pieces(text string, isRight func(string) bool) []string {
+	// One piece more than there may be is enough to refuse the text, however long the rest is.
+	found := strings.SplitN(text, "/", maxDepth+1)
+	if len(found) > maxDepth {
 		return nil
 	}
-	for _, name := range names {
-		if !isName(name) {
+	for _, piece := range found {
+		if !isRight(piece) {
 			return nil
 		}
 	}
-	return names
+	return found
 }
 
 // namesOrRoot answers the names of a path, none of them for the root, or nil if
@@ -38,12 +42,15 @@ func join(path string, name string) string {
 	return path + "/" + name
 }
 
-func isName(text string) bool {
+func isName(text string) bool { return isMadeOf(text, isNameByte) }
+
+// isMadeOf tells whether a text is as long as a name may be, of such bytes alone.
+func isMadeOf(text string, isRight func(byte) bool) bool {
 	if len(text) < 1 || len(text) > maxName {
 		return false
 	}
 	for i := range len(text) {
-		if !isNameByte(text[i]) {
+		if !isRight(text[i]) {
 			return false
 		}
 	}
