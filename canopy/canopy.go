@@ -1,7 +1,11 @@
 // Package canopy: snapshots of trees of files, and what must be built again: see DOC.md.
 package canopy
 
-import "strings"
+import (
+	"maps"
+	"slices"
+	"strings"
+)
 
 // Errno is what a call answers: OK or the reason for a refusal.
 type Errno int
@@ -29,6 +33,8 @@ const (
 	maxFiles     = 20
 	maxSnapshots = 12
 	maxText      = 60
+	maxRules     = 8
+	maxQuestions = 6
 )
 
 // Store keeps snapshots and rules.
@@ -38,6 +44,7 @@ type Store struct {
 	snapshots   map[int]*directory
 	directories map[listing]*directory // each tree of a directory, once
 	files       map[string]*file       // each data of a file, once
+	rules       map[string]*rule
 }
 
 // New makes a store (P3).
@@ -50,6 +57,7 @@ func New(cells int) (*Store, Errno) {
 		snapshots:   map[int]*directory{},
 		directories: map[listing]*directory{},
 		files:       map[string]*file{},
+		rules:       map[string]*rule{},
 	}
 	s.add(&directory{})
 	return s, OK
@@ -178,8 +186,41 @@ func (s *Store) Ask(snapshot int, question string) (string, Errno) {
 	return answer(q, root), OK
 }
 
-// Rule sets a rule (P9).
-func (s *Store) Rule(name string, questions ...string) Errno { return OK }
+// Rule sets a rule, or gives it up if there is no question (P9).
+func (s *Store) Rule(name string, questions ...string) Errno {
+	if !isName(name) {
+		return ErrPath
+	}
+	if len(questions) > maxQuestions || s.rules[name] == nil && len(s.rules) >= maxRules {
+		return ErrMany
+	}
+	parsed, err := parseAll(questions)
+	if err != OK {
+		return err
+	}
+	if len(parsed) == 0 {
+		delete(s.rules, name)
+		return OK
+	}
+	s.setRule(name, parsed)
+	return OK
+}
 
 // Plan tells which rules must be built (P9).
-func (s *Store) Plan(snapshot int) (string, Errno) { return "", OK }
+func (s *Store) Plan(snapshot int) (string, Errno) {
+	root := s.snapshots[snapshot]
+	if root == nil {
+		return "", ErrSnapshot
+	}
+	if len(s.rules) == 0 {
+		return "", ErrRule
+	}
+	var lines strings.Builder
+	for _, name := range slices.Sorted(maps.Keys(s.rules)) {
+		if s.rules[name].build(root) {
+			lines.WriteString(name)
+			lines.WriteByte('\n')
+		}
+	}
+	return lines.String(), OK
+}

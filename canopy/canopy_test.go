@@ -4,7 +4,6 @@ import (
 	"fmt"
 	"maps"
 	"math"
-	"slices"
 	"strings"
 	"testing"
 )
@@ -167,6 +166,8 @@ func callAll(t *testing.T, s *Store, n int, a, b string) {
 	answer, err = s.Ask(n, a)
 	text("Ask", answer, err)
 	s.Rule(a, b, a)
+	s.Rule("rule", "list /", a)
+	s.Rule("one", b)
 	answer, err = s.Plan(n)
 	text("Plan", answer, err)
 	s.Release(n)
@@ -262,18 +263,6 @@ func TestP2Stores(t *testing.T) {
 	wantFiles(t, b, 1, files{"a/b": "x"})
 	wantPut(t, b, 1, "c", "y", 0, ErrFull)
 	wantCells(t, newStore(t, 1), 1)
-}
-
-// TestP2Lists: a list that is handed in by ... is the caller's alone.
-func TestP2Lists(t *testing.T) {
-	s := newStore(t, 20)
-	questions := []string{"read b", "exists a", "list /", "beyond"}
-	list := questions[:3]
-	s.Rule("all", list...)
-	s.Plan(0)
-	if want := []string{"read b", "exists a", "list /", "beyond"}; !slices.Equal(questions, want) {
-		t.Errorf("Rule left %q of its list, want %q", questions, want)
-	}
 }
 
 func TestP3New(t *testing.T) {

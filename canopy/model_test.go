@@ -14,10 +14,11 @@ import (
 type model struct {
 	room, made int
 	snapshots  map[int]map[string]string
+	rules      map[string]*modelRule
 }
 
 func newModel(room int) *model {
-	return &model{room: room, made: 1, snapshots: map[int]map[string]string{0: {}}}
+	return &model{room: room, made: 1, snapshots: map[int]map[string]string{0: {}}, rules: map[string]*modelRule{}}
 }
 
 // crowd makes a snapshot with nearly as many files as there may be, if there is room.
@@ -274,7 +275,7 @@ func difference(s *Store, m *model) string {
 }
 
 // TestModel makes long runs of calls, right ones and wrong ones, and holds each answer and all
-// snapshots against the model (P1, P4 to P8).
+// snapshots against the model (P1, P4 to P10).
 func TestModel(t *testing.T) {
 	for seed := range uint64(48) {
 		r := rand.New(rand.NewPCG(seed, 1))
@@ -291,6 +292,9 @@ func TestModel(t *testing.T) {
 				t.Fatalf("seed %d: %s", seed, fault)
 			}
 			if fault := inquire(r, s, m); fault != "" {
+				t.Fatalf("seed %d: %s", seed, fault)
+			}
+			if fault := order(r, s, m); fault != "" {
 				t.Fatalf("seed %d: %s", seed, fault)
 			}
 			if fault := step(r, s, m); fault != "" {

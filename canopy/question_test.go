@@ -296,27 +296,37 @@ var (
 	partShape     = regexp.MustCompile(`^(\*\*|(\*?[a-z0-9.?])+\*?|\*)$`)
 )
 
-// ask answers as the model's map of a snapshot tells, paths and patterns being texts.
-func (m *model) ask(snapshot int, question string) (string, Errno) {
-	files := m.snapshots[snapshot]
+// modelFault tells the question's own error, paths and patterns being texts.
+func modelFault(question string) Errno {
 	words := strings.Split(question, " ")
 	switch {
-	case files == nil:
-		return "", ErrSnapshot
 	case len(question) > 60:
-		return "", ErrLong
+		return ErrLong
 	case !questionShape.MatchString(question):
-		return "", ErrQuestion
+		return ErrQuestion
 	case words[0] == "glob" && !modelIsPattern(words[1]):
-		return "", ErrPattern
+		return ErrPattern
 	case words[0] == "first" && !(modelIsPath(words[1]) && !strings.Contains(words[1], "/")):
-		return "", ErrPath
+		return ErrPath
 	}
 	for _, word := range words[1:] {
 		if words[0] != "glob" && word != "/" && !modelIsPath(word) {
-			return "", ErrPath
+			return ErrPath
 		}
 	}
+	return OK
+}
+
+// ask answers as the model's map of a snapshot tells.
+func (m *model) ask(snapshot int, question string) (string, Errno) {
+	files := m.snapshots[snapshot]
+	if files == nil {
+		return "", ErrSnapshot
+	}
+	if err := modelFault(question); err != OK {
+		return "", err
+	}
+	words := strings.Split(question, " ")
 	switch words[0] {
 	case "glob":
 		return modelGlob(files, words[1]), OK
